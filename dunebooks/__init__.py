@@ -1,0 +1,1 @@
+"""Dunes under two winds, and two books whose order is lost."""
