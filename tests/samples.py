@@ -50,6 +50,76 @@ def slow_core(almanac):
     return [wind for at, wind in enumerate(kept) if at + 1 == len(kept) or kept[at + 1][0] != wind[0]]
 
 
+def slow_orders(cuts, fills):
+    """All orders of two books, as texts rise."""
+    many = len(cuts) + len(fills)
+    rows = itertools.combinations(range(many), len(cuts))
+    return sorted("".join(["c" if at in row else "f" for at in range(many)]) for row in rows)
+
+
+def place_in(order, sign, number):
+    """Where the c or the f of that number stands in an order."""
+    return [at for at, other in enumerate(order) if other == sign][number]
+
+
+def slow_has(order, word):
+    """Whether an order has a word, by where its cut and its fill stand."""
+    first, cut, fill = word
+    cut_place, fill_place = place_in(order, "c", cut), place_in(order, "f", fill)
+    return cut_place < fill_place if first == "cut" else fill_place < cut_place
+
+
+def slow_held(cuts, fills, words):
+    """All orders that have all words, as texts rise."""
+    return [order for order in slow_orders(cuts, fills) if all(slow_has(order, word) for word in words)]
+
+
+def slow_clash(cuts, fills, words):
+    """The first pair of places of two words that no order has both; None of none."""
+    pairs = itertools.combinations(range(len(words)), 2)
+    return next((pair for pair in pairs if not slow_held(cuts, fills, [words[at] for at in pair])), None)
+
+
+def slow_almanac(cuts, fills, order):
+    """The almanac of two books in an order."""
+    ahead = {"c": iter([("cut", slope) for slope in cuts]), "f": iter([("fill", slope) for slope in fills])}
+    return [next(ahead[sign]) for sign in order]
+
+
+def all_words(cuts, fills):
+    """Each word that there is of two books."""
+    return [(first, cut, fill) for first in WORDS for cut in range(len(cuts)) for fill in range(len(fills))]
+
+
+def words_of(order):
+    """Each word that an order has."""
+    cuts, fills = "c" * order.count("c"), "f" * order.count("f")
+    return [word for word in all_words(cuts, fills) if slow_has(order, word)]
+
+
+def word_lists(cuts, fills, many):
+    """All lists of none to so many words of two books, those that no order has among them."""
+    each = all_words(cuts, fills)
+    return [list(row) for so_many in range(many + 1) for row in itertools.product(each, repeat=so_many)]
+
+
+def small_cases():
+    """Small books with words, each as a triple: no words, words told twice, words that clash, all words of an order."""
+    told = []
+    for cut_many, fill_many, many in [(0, 0, 0), (0, 1, 0), (0, 3, 0), (1, 0, 0), (3, 0, 0), (1, 1, 4), (1, 2, 3),
+                                      (2, 1, 3), (2, 2, 3), (1, 3, 2), (3, 1, 2), (2, 3, 2), (3, 2, 2), (3, 3, 2)]:
+        cuts, fills = [4, 2, 3][:cut_many], [3, 5, 1][:fill_many]
+        told += [(cuts, fills, words) for words in word_lists(cuts, fills, many)]
+        for order in slow_orders(cuts, fills):
+            told += [(cuts, fills, words_of(order)), (cuts, fills, words_of(order)[::-1])]
+    # Longer lists, of three by four, each word some steps behind the one ahead of it.
+    cuts, fills = [2, 1, 2], [1, 3, 0, 2]
+    each = all_words(cuts, fills)
+    for begin, step, many in itertools.product(range(len(each)), (1, 5, 7, 11), (3, 4, 6)):
+        told.append((cuts, fills, [each[(begin + step * at) % len(each)] for at in range(many)]))
+    return told
+
+
 def nested(inner, deep, kinds):
     """A thing in so many lists or tuples, one in the other; kinds take turns."""
     for turn in range(deep):

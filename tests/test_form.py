@@ -1,6 +1,7 @@
 """The rules of LANGUAGE.md that can be seen from outside, of each file of the package."""
 
 import ast
+import builtins
 import pathlib
 import re
 import unittest
@@ -14,6 +15,24 @@ BARRED_INSIDE = ["dataclass", "overload", "contextmanager"]
 DUNDERS = ["__init__", "__eq__", "__repr__", "__str__", "__len__"]
 BUILTINS = ["len", "range", "enumerate", "zip", "min", "max", "sum", "abs", "sorted", "reversed", "int", "str", "bool",
             "list", "tuple", "dict", "set", "isinstance", "ord", "repr", "any", "all", "divmod"]
+OWN_ERRORS = ["Exception", "ValueError", "TypeError", "KeyError", "IndexError", "LookupError", "ZeroDivisionError",
+              "ArithmeticError", "OverflowError", "RuntimeError", "NotImplementedError", "NotImplemented"]
+METHODS = """append clear copy count endswith extend find get index insert isalnum isalpha isdigit islower isspace
+isupper items join keys ljust lower lstrip partition pop remove replace reverse rfind rjust rpartition rsplit rstrip
+setdefault split splitlines startswith strip update upper values zfill bit_length __init__""".split()
+
+
+def bound_in(tree):
+    """Each name that is assigned, handed in or defined anywhere in a tree, imports apart."""
+    told = [node.id for node in ast.walk(tree) if isinstance(node, ast.Name) and isinstance(node.ctx, ast.Store)]
+    told += [node.arg for node in ast.walk(tree) if isinstance(node, ast.arg)]
+    return told + [node.name for node in ast.walk(tree) if isinstance(node, (ast.FunctionDef, ast.ClassDef))]
+
+
+def imported_in(tree):
+    """Each name that a file imports."""
+    rows = [node.names for node in ast.walk(tree) if isinstance(node, ast.ImportFrom)]
+    return [alias.asname or alias.name for names in rows for alias in names]
 
 
 def each_node(kind):
@@ -74,6 +93,55 @@ class Form(unittest.TestCase):
             for sign, right in zip(node.ops, node.comparators):
                 if isinstance(sign, (ast.Is, ast.IsNot)):
                     self.assertIn(getattr(right, "value", 0), (None, True, False), path)
+
+    def test_no_other_builtins(self):
+        for path in FILES:
+            tree = ast.parse(path.read_text())
+            known = set(bound_in(tree) + imported_in(tree) + BUILTINS + OWN_ERRORS)
+            used = {node.id for node in ast.walk(tree) if isinstance(node, ast.Name)}
+            self.assertEqual(used - known, set(), path)
+
+    def test_nothing_gets_the_name_of_an_import_or_a_builtin(self):
+        for path in FILES:
+            tree = ast.parse(path.read_text())
+            imported = imported_in(tree)
+            self.assertEqual(len(imported), len(set(imported)), path)
+            self.assertEqual(set(bound_in(tree)) & set(imported + dir(builtins)) - set(DUNDERS), set(), path)
+
+    def test_each_name_of_a_module_is_bound_once(self):
+        for path in FILES:
+            tree = ast.parse(path.read_text())
+            top = [node.name for node in tree.body if isinstance(node, (ast.FunctionDef, ast.ClassDef))]
+            top += [name.id for node in tree.body if isinstance(node, ast.Assign) for name in node.targets]
+            self.assertEqual(len(top + imported_in(tree)), len(set(top + imported_in(tree))), path)
+
+    def test_each_import_names_the_file_that_defines_the_name(self):
+        defined = {f"dunebooks.{path.stem}": bound_in(ast.parse(path.read_text())) for path in FILES}
+        for path, node in each_node(ast.ImportFrom):
+            for alias in node.names:
+                self.assertIn(alias.name, defined[node.module], path)
+
+    def test_no_two_files_import_each_other(self):
+        ahead = {path.stem: set() for path in FILES}
+        for path, node in each_node(ast.ImportFrom):
+            ahead[path.stem].add(node.module.split(".")[1])
+        while ahead:
+            free = [stem for stem, needed in ahead.items() if not needed & set(ahead)]
+            self.assertNotEqual(free, [], ahead)
+            ahead = {stem: needed for stem, needed in ahead.items() if stem not in free}
+
+    def test_methods(self):
+        own = [node.name for path, node in each_node(ast.FunctionDef)]
+        for path, node in each_node(ast.Call):
+            if isinstance(node.func, ast.Attribute):
+                self.assertIn(node.func.attr, METHODS + own, path)
+
+    def test_powers_and_raises(self):
+        for path, node in each_node(ast.BinOp):
+            if isinstance(node.op, ast.Pow):
+                self.assertIn(getattr(node.right, "value", None), range(65), path)
+        for path, node in each_node(ast.Raise):
+            self.assertIsInstance(node.exc, (ast.Call, None.__class__), path)
 
     def test_python_gives_no_warning(self):
         with warnings.catch_warnings():

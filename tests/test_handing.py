@@ -4,14 +4,20 @@ import copy
 import itertools
 import unittest
 
-from dunebooks import almanacs, dunes, winds
-from dunebooks.errors import NoPost
+from dunebooks import almanacs, beside, between, dunes, orders, texts, winds
+from dunebooks.errors import Against, BadText, Clash, NoOrder, NoPost, Unlike
 from samples import BOUND, shape, with_kind
 
 DUNE = (0, 5, 1)
 CUT = ("cut", 2)
 FILL = ("fill", 2)
 ALMANAC = [("cut", 3), ("fill", 2), ("cut", 2)]
+BOOKS = {"cuts": [3, 2], "fills": [2, 1]}
+BARE_BOOKS = {"cuts": [], "fills": []}
+WORDS = [("cut", 0, 1), ("fill", 1, 0)]
+TOLD_BOOKS = {**BOOKS, "words": WORDS}
+BARE_TOLD = {**BARE_BOOKS, "words": []}
+CLASH = [("cut", 0, 0), ("cut", 1, 1), ("fill", 1, 1), ("fill", 0, 0)]
 
 # Each function with its arguments by the document's names, in the document's order, and what it tells.
 ROWS = [
@@ -50,12 +56,85 @@ ROWS = [
     (almanacs.can_stand, {"dune": DUNE, "almanac": ALMANAC}, False),
     (almanacs.can_stand, {"dune": (0, 2, 1), "almanac": ALMANAC}, True),
     (almanacs.can_stand, {"dune": DUNE, "almanac": []}, True),
+    (orders.is_order, {**BOOKS, "thing": "cffc"}, True),
+    (orders.is_order, {**BOOKS, "thing": ["c", "f", "f", "c"]}, False),
+    (orders.almanac_of, {**BOOKS, "order": "cffc"}, [("cut", 3), ("fill", 2), ("fill", 1), ("cut", 2)]),
+    (orders.almanac_of, {**BARE_BOOKS, "order": ""}, []),
+    (orders.books_of, {"almanac": ALMANAC}, ([3, 2], [2])),
+    (orders.books_of, {"almanac": []}, ([], [])),
+    (orders.order_of, {"almanac": ALMANAC}, "cfc"),
+    (orders.order_of, {"almanac": []}, ""),
+    (orders.holds, {"order": "cffc", "words": WORDS}, True),
+    (orders.holds, {"order": "ccff", "words": WORDS}, False),
+    (orders.bounds, TOLD_BOOKS, [(0, 1), (1, 2)]),
+    (orders.bounds, BARE_TOLD, []),
+    (orders.orders_many, TOLD_BOOKS, 4),
+    (orders.orders_many, BARE_TOLD, 1),
+    (orders.order_at, {**TOLD_BOOKS, "number": 2}, "fccf"),
+    (orders.order_at, {**BARE_TOLD, "number": 0}, ""),
+    (orders.number_of, {**TOLD_BOOKS, "order": "fcfc"}, 3),
+    (orders.number_of, {**BARE_TOLD, "order": ""}, 0),
+    (between.least_order, TOLD_BOOKS, "cfcf"),
+    (between.least_order, BARE_TOLD, ""),
+    (between.greatest_order, TOLD_BOOKS, "fcfc"),
+    (between.greatest_order, BARE_TOLD, ""),
+    (between.may_stand, {"dune": DUNE, **TOLD_BOOKS}, ((2, 3, 2), (4, 5, 4))),
+    (between.may_stand, {"dune": DUNE, **BARE_TOLD}, (DUNE, DUNE)),
+    (between.sure_posts, {"dune": (5, 5, 6), **TOLD_BOOKS}, [0, 1, 2]),
+    (between.sure_posts, {"dune": DUNE, **TOLD_BOOKS}, []),
+    (between.sure_posts, {"dune": DUNE, **BARE_TOLD}, [0, 1, 2]),
+    (beside.width, {"one": DUNE, "other": (2, 2, 1)}, 3),
+    (beside.widest, {"one": DUNE, "other": (2, 2, 1)}, 1),
+    (beside.is_below, {"one": DUNE, "other": (2, 5, 1)}, True),
+    (beside.is_below, {"one": DUNE, "other": (2, 2, 1)}, False),
+    (beside.widths, {"one": DUNE, "other": (2, 2, 1), "almanac": ALMANAC}, [3, 2, 1, 1]),
+    (beside.widths, {"one": DUNE, "other": (2, 2, 1), "almanac": []}, [3]),
+    (beside.felt, {"dune": DUNE, "almanac": ALMANAC, "post": 0, "by": 3}, (2, 1, 1)),
+    (beside.felt, {"dune": DUNE, "almanac": [], "post": 0, "by": 3}, (3, 0, 0)),
+    (texts.dune_text, {"dune": DUNE}, "0 5 1"),
+    (texts.almanac_text, {"almanac": ALMANAC}, "c3 f2 c2"),
+    (texts.almanac_text, {"almanac": []}, "-"),
+    (texts.dune_in, {"text": "0 5 1"}, DUNE),
+    (texts.almanac_in, {"text": "c3 f2 c2"}, ALMANAC),
+    (texts.almanac_in, {"text": "-"}, []),
+]
+
+# Each function that refuses, with arguments that it refuses, the refusal's class, its field and what that tells.
+REFUSED = [
+    (dunes.handed, {"dune": DUNE, "post": -1, "by": 4}, NoPost, "post", -1),
+    (dunes.handed, {"dune": DUNE, "post": 3, "by": 4}, NoPost, "post", 3),
+    (orders.bounds, {**BOOKS, "words": CLASH}, Clash, "places", (0, 3)),
+    (orders.orders_many, {**BOOKS, "words": CLASH}, Clash, "places", (0, 3)),
+    (orders.order_at, {**BOOKS, "words": CLASH, "number": 0}, Clash, "places", (0, 3)),
+    (orders.order_at, {**BOOKS, "words": CLASH, "number": -1}, Clash, "places", (0, 3)),
+    (orders.order_at, {**TOLD_BOOKS, "number": -1}, NoOrder, "number", -1),
+    (orders.order_at, {**TOLD_BOOKS, "number": 4}, NoOrder, "number", 4),
+    (orders.number_of, {**BOOKS, "words": CLASH, "order": "ffcc"}, Clash, "places", (0, 3)),
+    (orders.number_of, {**TOLD_BOOKS, "order": "ffcc"}, Against, "place", 0),
+    (orders.number_of, {**TOLD_BOOKS, "order": "ccff"}, Against, "place", 1),
+    (between.least_order, {**BOOKS, "words": CLASH}, Clash, "places", (0, 3)),
+    (between.greatest_order, {**BOOKS, "words": CLASH}, Clash, "places", (0, 3)),
+    (between.may_stand, {"dune": DUNE, **BOOKS, "words": CLASH}, Clash, "places", (0, 3)),
+    (between.sure_posts, {"dune": DUNE, **BOOKS, "words": CLASH}, Clash, "places", (0, 3)),
+    (beside.width, {"one": DUNE, "other": (1, 2)}, Unlike, None, None),
+    (beside.widest, {"one": DUNE, "other": (1, 2)}, Unlike, None, None),
+    (beside.is_below, {"one": DUNE, "other": (1, 2)}, Unlike, None, None),
+    (beside.widths, {"one": DUNE, "other": (1, 2), "almanac": ALMANAC}, Unlike, None, None),
+    (beside.felt, {"dune": DUNE, "almanac": ALMANAC, "post": -1, "by": 0}, NoPost, "post", -1),
+    (beside.felt, {"dune": DUNE, "almanac": ALMANAC, "post": 3, "by": 2}, NoPost, "post", 3),
+    (texts.dune_in, {"text": "1 c2"}, BadText, "at", 1),
+    (texts.almanac_in, {"text": "c2 1"}, BadText, "at", 1),
 ]
 
 
 def each_row():
     """The rows, their arguments made anew so that no test sees what another did to them."""
     return [(function, copy.deepcopy(named), wanted) for function, named, wanted in ROWS]
+
+
+def mixed(value):
+    """The same list, each second pair or triple in it as a list."""
+    return [list(part) if at % 2 else part for at, part in enumerate(value)]
 
 
 def in_other_kinds(named):
@@ -65,9 +144,16 @@ def in_other_kinds(named):
         other = {name: value if name == "thing" else with_kind(value, kinds[at % 2])
                  for at, (name, value) in enumerate(named.items())}
         told.append(other)
-    mixed = {name: [list(wind) if at % 2 else wind for at, wind in enumerate(value)] if name == "almanac" else value
-             for name, value in named.items()}
-    return told + [mixed]
+    told.append({name: mixed(value) if name in ("almanac", "words") else value for name, value in named.items()})
+    return told
+
+
+def lists_in(value):
+    """Each list in a value, at any depth."""
+    if not isinstance(value, (list, tuple)):
+        return []
+    inner = [found for part in value for found in lists_in(part)]
+    return [value] + inner if isinstance(value, list) else inner
 
 
 def spoil(value):
@@ -105,7 +191,7 @@ class Handing(unittest.TestCase):
 
     def test_but_not_in_a_thing(self):
         for function, named, wanted in each_row():
-            if "thing" in named and wanted:
+            if isinstance(named.get("thing"), (list, tuple)) and wanted:
                 kind = tuple if isinstance(named["thing"], list) else list
                 named["thing"] = kind(named["thing"])
                 self.told(function(**named), False)
@@ -131,10 +217,10 @@ class Handing(unittest.TestCase):
 
     def test_no_two_told_lists_are_one(self):
         for function, named, wanted in each_row():
-            one, other = function(**named), function(**named)
-            if isinstance(one, list):
-                self.assertIsNot(one, other)
-                self.assertIsNot(one, named.get("almanac"))
+            for handed in [named] + in_other_kinds(named):
+                answers = (function(**handed), function(**handed))
+                found = lists_in(answers) + lists_in(tuple(handed.values()))
+                self.assertEqual(len({id(part) for part in found}), len(found), function)
 
     def test_a_change_behind_is_not_seen(self):
         for function, named, wanted in each_row():
@@ -155,13 +241,37 @@ class Handing(unittest.TestCase):
         winds.shows_blown(DUNE, CUT, thing)
         self.told(thing, ([0, 2, 1], [0, 0, 2]))
 
+    def refused(self, function, named, refusal, field, wanted):
+        with self.assertRaises(refusal) as told:
+            function(**named)
+        self.assertIs(type(told.exception), refusal)
+        if field is not None:
+            self.told(getattr(told.exception, field), wanted)
+        return told.exception
+
+    def test_refusals_by_name_in_any_order_and_in_other_kinds(self):
+        for function, named, *wanted in REFUSED:
+            for names in itertools.permutations(named):
+                self.refused(function, {name: named[name] for name in names}, *wanted)
+            for other in in_other_kinds(named):
+                self.refused(function, other, *wanted)
+
     def test_a_refusal_changes_nothing(self):
-        dune = [0, 5, 1]
-        for post in (-1, 3):
-            with self.assertRaises(NoPost) as told:
-                dunes.handed(by=4, post=post, dune=dune)
-            self.assertEqual(told.exception.post, post)
-            self.assertEqual(dune, [0, 5, 1])
+        for function, named, *wanted in REFUSED:
+            for other in in_other_kinds(copy.deepcopy(named)):
+                before = copy.deepcopy(other)
+                self.refused(function, other, *wanted)
+                self.told(list(other.values()), list(before.values()))
+
+    def test_a_change_behind_a_refusal_is_not_seen(self):
+        for function, named, refusal, field, wanted in REFUSED:
+            other = in_other_kinds(copy.deepcopy(named))[0]
+            told = self.refused(function, other, refusal, field, wanted)
+            for value in other.values():
+                spoil(value)
+            if field is not None:
+                self.told(getattr(told, field), wanted)
+            self.refused(function, named, refusal, field, wanted)
 
     def test_what_was_told_may_be_handed_in_again(self):
         dune = (BOUND, -BOUND) * 20
@@ -174,6 +284,11 @@ class Handing(unittest.TestCase):
             self.assertNotEqual(winds.blown(dune, (word, slope - 1)), dune)
             after = winds.blown(dune, (word, 3))
             self.assertIs(winds.shows_blown(dune, (word, 3), (after, winds.sources(dune, (word, 3)))), True)
+            self.told(texts.almanac_in(texts.almanac_text([(word, slope)])), [(word, slope)])
+        self.told(texts.dune_in(texts.dune_text(dune)), dune)
+        self.told(beside.width(dune, dunes.raised(dune, slope)), slope)
+        self.told(beside.felt(dune, [("cut", slope)], 39, 0), (0,) * 40)
+        self.told(between.may_stand(dune, [slope], [slope], []), (dune, dune))
 
 
 if __name__ == "__main__":

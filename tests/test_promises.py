@@ -1,27 +1,14 @@
-"""What [1] (a), (b) and (g) say of winds."""
+"""What [1] (a), (b) and (g) say of winds, of orders and of two dunes."""
 
 import itertools
 import unittest
 
 from dunebooks.almanacs import behind
+from dunebooks.beside import is_below, widths
+from dunebooks.between import greatest_order, least_order, may_stand
+from dunebooks.orders import almanac_of, order_at, orders_many
 from dunebooks.winds import blown
-from samples import WORDS, slow_core, small_almanacs, small_dunes
-
-
-def rows_of(cuts, fills):
-    """All almanacs of two books, each book in its own order."""
-    many = len(cuts) + len(fills)
-    for places in itertools.combinations(range(many), len(cuts)):
-        ahead_cuts, ahead_fills = iter(cuts), iter(fills)
-        yield [("cut", next(ahead_cuts)) if at in places else ("fill", next(ahead_fills)) for at in range(many)]
-
-
-def is_nowhere_higher(one, other):
-    return all(low <= high for low, high in zip(one, other))
-
-
-def width(one, other):
-    return max(abs(here - there) for here, there in zip(one, other))
+from samples import WORDS, slow_core, slow_held, small_almanacs, small_dunes
 
 
 class Cores(unittest.TestCase):
@@ -43,16 +30,25 @@ class Cores(unittest.TestCase):
 
 
 class Orders(unittest.TestCase):
-    def test_all_lies_between_all_cuts_first_and_all_fills_first(self):
+    def test_all_that_may_stand_lies_between_two_dunes_come_to_by_two_orders(self):
         dunes = small_dunes(3, (0, 2, 5)) + [(7, 0, 3, 9, 1)]
         books = [list(book) for many in range(3) for book in itertools.product((0, 1, 2), repeat=many)]
         for cuts, fills in itertools.product(books, repeat=2):
-            cut_winds, fill_winds = [("cut", slope) for slope in cuts], [("fill", slope) for slope in fills]
-            for dune in dunes:
-                least, greatest = behind(dune, cut_winds + fill_winds), behind(dune, fill_winds + cut_winds)
-                for almanac in rows_of(cuts, fills):
-                    after = behind(dune, almanac)
-                    self.assertTrue(is_nowhere_higher(least, after) and is_nowhere_higher(after, greatest))
+            words = [("cut", 0, len(fills) - 1)] if cuts and fills else []
+            for told in ([], words):
+                self.lie_between(dunes, cuts, fills, told)
+
+    def lie_between(self, dunes, cuts, fills, words):
+        orders = [order_at(cuts, fills, words, number) for number in range(orders_many(cuts, fills, words))]
+        self.assertEqual(orders, slow_held(cuts, fills, words))
+        ends = (least_order(cuts, fills, words), greatest_order(cuts, fills, words))
+        self.assertTrue(ends[0] in orders and ends[1] in orders)
+        for dune in dunes:
+            least, greatest = may_stand(dune, cuts, fills, words)
+            self.assertEqual((least, greatest), tuple(behind(dune, almanac_of(cuts, fills, end)) for end in ends))
+            for order in orders:
+                after = behind(dune, almanac_of(cuts, fills, order))
+                self.assertTrue(is_below(least, after) and is_below(after, greatest))
 
 
 class TwoDunes(unittest.TestCase):
@@ -61,10 +57,10 @@ class TwoDunes(unittest.TestCase):
             dunes = list(itertools.product((0, 1, 4), repeat=many))
             for one, other in itertools.product(dunes, repeat=2):
                 for wind in itertools.product(WORDS, (0, 1, 2, 3)):
-                    ends = blown(one, wind), blown(other, wind)
-                    self.assertLessEqual(width(*ends), width(one, other))
-                    if is_nowhere_higher(one, other):
-                        self.assertTrue(is_nowhere_higher(*ends))
+                    ahead, after = widths(one, other, [wind])
+                    self.assertLessEqual(after, ahead)
+                    if is_below(one, other):
+                        self.assertTrue(is_below(blown(one, wind), blown(other, wind)))
 
 
 if __name__ == "__main__":
