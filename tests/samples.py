@@ -1,9 +1,25 @@
 """What several tests use: small dunes, the document's words done slowly, strange things."""
 
 import itertools
+import unittest
 
 BOUND = 4 * 10 ** 9
 WORDS = ("cut", "fill")
+
+
+class Told(unittest.TestCase):
+    """A test that also tells True from 1 and a list from a tuple."""
+
+    def told(self, told, wanted):
+        self.assertEqual(shape(told), shape(wanted))
+
+    def refused(self, refusal, wanted, function, *handed):
+        """That the function refuses with just this class; wanted are the fields and what they tell."""
+        with self.assertRaises(refusal) as told:
+            function(*handed)
+        self.assertIs(type(told.exception), refusal)
+        for field, value in wanted.items():
+            self.told(getattr(told.exception, field), value)
 
 
 def small_dunes(posts, heights):
@@ -151,3 +167,68 @@ def shape(value):
     if isinstance(value, (list, tuple)):
         return (type(value).__name__, [shape(part) for part in value])
     return (type(value).__name__, value)
+
+
+def parts_otherwise(part):
+    """Other things to stand where one part of a thing stands."""
+    told = [None, True, False, -1, 0, 1, 2, 10 ** 20, "", "cut", "fill", "hand", (), [], (0,), [0], ((),), [[]]]
+    if isinstance(part, (list, tuple)):
+        other = tuple if isinstance(part, list) else list
+        kind = type(part)
+        told += [other(part), kind([part]), other([part]), part + kind([0]), part + kind([()]), part + part, part[::-1]]
+        told += [part[:at] + part[at + 1:] for at in range(len(part))]
+    elif isinstance(part, int):
+        told += [part + 1, part - 1, -part, str(part), bool(part), (part,), [part]]
+    return told
+
+
+def otherwise(thing):
+    """The thing with one part of it, at any depth, otherwise; some come out as the thing itself."""
+    told = parts_otherwise(thing)
+    if isinstance(thing, (list, tuple)):
+        for at, part in enumerate(thing):
+            told += [thing[:at] + type(thing)([other]) + thing[at + 1:] for other in otherwise(part)]
+    return told
+
+
+def slow_is_wind(thing):
+    """Whether a thing is a wind, of just the kinds that the document tells."""
+    return type(thing) is tuple and len(thing) == 2 and type(thing[0]) is str and thing[0] in WORDS \
+        and type(thing[1]) is int and thing[1] >= 0
+
+
+def slow_is_core(thing):
+    """Whether a thing is its own core: slopes fall, words take turns."""
+    if type(thing) is not list or not all(slow_is_wind(wind) for wind in thing):
+        return False
+    return all(one[0] != other[0] and one[1] > other[1] for one, other in zip(thing, thing[1:]))
+
+
+def slow_done(dune, entries):
+    """The dune behind entries, each done slowly."""
+    for entry in entries:
+        if entry[0] == "hand":
+            dune = tuple([height + (entry[2] if at == entry[1] else 0) for at, height in enumerate(dune)])
+        else:
+            dune = slow_blown(dune, entry)
+    return dune
+
+
+def slow_rows(cutter, filler):
+    """All rows of entries that have these two books, by their places: hands are taken off both at once."""
+    if cutter == [] and filler == []:
+        return [[]]
+    told = []
+    if cutter and cutter[0][0] != "hand":
+        told += [[cutter[0]] + row for row in slow_rows(cutter[1:], filler)]
+    if filler and filler[0][0] != "hand":
+        told += [[filler[0]] + row for row in slow_rows(cutter, filler[1:])]
+    if cutter and filler and cutter[0][0] == "hand" and cutter[0] == filler[0]:
+        told += [[cutter[0]] + row for row in slow_rows(cutter[1:], filler[1:])]
+    return told
+
+
+def least_and_greatest(dunes):
+    """The pair of what each post has at least, at most, of some dunes."""
+    columns = list(zip(*dunes))
+    return (tuple([min(column) for column in columns]), tuple([max(column) for column in columns]))

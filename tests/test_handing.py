@@ -4,8 +4,8 @@ import copy
 import itertools
 import unittest
 
-from dunebooks import almanacs, beside, between, dunes, orders, texts, winds
-from dunebooks.errors import Against, BadText, Clash, NoOrder, NoPost, Unlike
+from dunebooks import almanacs, beside, between, cores, dunes, longbooks, orders, plays, texts, torn, winds
+from dunebooks.errors import Against, Astray, BadText, Clash, NoOrder, NoPost, Unlike
 from samples import BOUND, shape, with_kind
 
 DUNE = (0, 5, 1)
@@ -17,6 +17,12 @@ BARE_BOOKS = {"cuts": [], "fills": []}
 WORDS = [("cut", 0, 1), ("fill", 1, 0)]
 TOLD_BOOKS = {**BOOKS, "words": WORDS}
 BARE_TOLD = {**BARE_BOOKS, "words": []}
+HAND = ("hand", 0, 4)
+CUTTER = [("cut", 3), HAND, ("cut", 1)]
+FILLER = [HAND, ("fill", 1)]
+KEPT = {"cutter": CUTTER, "filler": FILLER}
+ENTRIES = [("cut", 3), ("fill", 4), HAND, ("fill", 2), ("cut", 2)]
+PLAY = [(0, 0, 2), (), (0, 1, 2)]
 CLASH = [("cut", 0, 0), ("cut", 1, 1), ("fill", 1, 1), ("fill", 0, 0)]
 
 # Each function with its arguments by the document's names, in the document's order, and what it tells.
@@ -56,6 +62,17 @@ ROWS = [
     (almanacs.can_stand, {"dune": DUNE, "almanac": ALMANAC}, False),
     (almanacs.can_stand, {"dune": (0, 2, 1), "almanac": ALMANAC}, True),
     (almanacs.can_stand, {"dune": DUNE, "almanac": []}, True),
+    (cores.core, {"almanac": ALMANAC}, [("cut", 3), ("fill", 2)]),
+    (cores.core, {"almanac": ALMANAC[:2]}, ALMANAC[:2]),
+    (cores.core, {"almanac": []}, []),
+    (cores.is_core, {"thing": ALMANAC[:2]}, True),
+    (cores.is_core, {"thing": ALMANAC}, False),
+    (cores.alike, {"one": ALMANAC, "other": ALMANAC[:2]}, True),
+    (cores.alike, {"one": ALMANAC, "other": ALMANAC[1:]}, False),
+    (cores.parting, {"one": ALMANAC, "other": ALMANAC[1:]}, 4),
+    (cores.parting, {"one": ALMANAC, "other": ALMANAC[:2]}, None),
+    (cores.shows_parting, {"one": ALMANAC, "other": ALMANAC[1:], "thing": 9}, True),
+    (cores.shows_parting, {"one": ALMANAC, "other": ALMANAC[1:], "thing": 3}, False),
     (orders.is_order, {**BOOKS, "thing": "cffc"}, True),
     (orders.is_order, {**BOOKS, "thing": ["c", "f", "f", "c"]}, False),
     (orders.almanac_of, {**BOOKS, "order": "cffc"}, [("cut", 3), ("fill", 2), ("fill", 1), ("cut", 2)]),
@@ -83,6 +100,33 @@ ROWS = [
     (between.sure_posts, {"dune": (5, 5, 6), **TOLD_BOOKS}, [0, 1, 2]),
     (between.sure_posts, {"dune": DUNE, **TOLD_BOOKS}, []),
     (between.sure_posts, {"dune": DUNE, **BARE_TOLD}, [0, 1, 2]),
+    (plays.held, {"dune": DUNE, "almanac": ALMANAC, "word": "cut", "play": PLAY}, (1, 3, 1)),
+    (plays.held, {"dune": DUNE, "almanac": [], "word": "cut", "play": []}, DUNE),
+    (plays.best_play, {"dune": DUNE, "almanac": ALMANAC, "word": "cut"}, [(0, 0, 2), (), (0, 0, 2)]),
+    (plays.best_play, {"dune": DUNE, "almanac": [], "word": "fill"}, []),
+    (plays.shows_most, {"dune": DUNE, "almanac": ALMANAC, "post": 1, "height": 3, "thing": PLAY}, True),
+    (plays.shows_most, {"dune": DUNE, "almanac": ALMANAC, "post": 1, "height": 2, "thing": PLAY}, False),
+    (plays.shows_least, {"dune": DUNE, "almanac": ALMANAC, "post": 0, "height": 1, "thing": [(), (1, 1, 1), ()]}, True),
+    (plays.shows_least, {"dune": DUNE, "almanac": ALMANAC, "post": 0, "height": 2, "thing": [(), (1, 1, 1), ()]}, False),
+    (torn.slopes_for, {"dune": DUNE, "ahead": [("cut", 4)], "word": "fill", "later": [("cut", 2), ("fill", 3)],
+                       "told": (1, 3, 1)}, (3, 3)),
+    (torn.slopes_for, {"dune": DUNE, "ahead": [], "word": "cut", "later": [], "told": DUNE}, (5, None)),
+    (torn.slopes_for, {"dune": DUNE, "ahead": [], "word": "cut", "later": [], "told": (0, 5, 2)}, None),
+    (torn.fits_torn, {"dune": DUNE, "ahead": [("cut", 4)], "later": [("cut", 3), ("fill", 3)], "told": (0, 3, 1)},
+     ["cut", "fill"]),
+    (torn.fits_torn, {"dune": DUNE, "ahead": [], "later": [], "told": (0, 5, 2)}, []),
+    (longbooks.done, {"dune": DUNE, "entries": ENTRIES}, (4, 3, 1)),
+    (longbooks.done, {"dune": DUNE, "entries": []}, DUNE),
+    (longbooks.kept_by, {"entries": ENTRIES, "word": "cut"}, [("cut", 3), HAND, ("cut", 2)]),
+    (longbooks.kept_by, {"entries": [], "word": "fill"}, []),
+    (longbooks.idle_for_all, {"entries": ENTRIES}, [1, 4]),
+    (longbooks.idle_for_all, {"entries": []}, []),
+    (longbooks.stretches, KEPT, [([3], [], HAND), ([1], [1], None)]),
+    (longbooks.stretches, {"cutter": [], "filler": []}, [([], [], None)]),
+    (longbooks.long_may, {"dune": DUNE, **KEPT}, ((3, 2, 1), (4, 3, 2))),
+    (longbooks.long_may, {"dune": DUNE, "cutter": [], "filler": []}, (DUNE, DUNE)),
+    (longbooks.long_many, KEPT, 2),
+    (longbooks.long_many, {"cutter": [], "filler": []}, 1),
     (beside.width, {"one": DUNE, "other": (2, 2, 1)}, 3),
     (beside.widest, {"one": DUNE, "other": (2, 2, 1)}, 1),
     (beside.is_below, {"one": DUNE, "other": (2, 5, 1)}, True),
@@ -122,6 +166,12 @@ REFUSED = [
     (beside.widths, {"one": DUNE, "other": (1, 2), "almanac": ALMANAC}, Unlike, None, None),
     (beside.felt, {"dune": DUNE, "almanac": ALMANAC, "post": -1, "by": 0}, NoPost, "post", -1),
     (beside.felt, {"dune": DUNE, "almanac": ALMANAC, "post": 3, "by": 2}, NoPost, "post", 3),
+    (longbooks.done, {"dune": DUNE, "entries": [HAND, ("hand", 3, 1), ("hand", -1, 1)]}, NoPost, "post", 3),
+    (longbooks.stretches, {"cutter": [HAND, HAND], "filler": FILLER}, Astray, "number", 1),
+    (longbooks.long_may, {"dune": DUNE, "cutter": [HAND, HAND], "filler": FILLER}, Astray, "number", 1),
+    (longbooks.long_may, {"dune": DUNE, "cutter": [("hand", -1, 1)], "filler": [("hand", -1, 2)]}, Astray, "number", 0),
+    (longbooks.long_may, {"dune": DUNE, "cutter": [("hand", -1, 1)], "filler": [("hand", -1, 1)]}, NoPost, "post", -1),
+    (longbooks.long_many, {"cutter": [HAND, HAND], "filler": FILLER}, Astray, "number", 1),
     (texts.dune_in, {"text": "1 c2"}, BadText, "at", 1),
     (texts.almanac_in, {"text": "c2 1"}, BadText, "at", 1),
 ]
@@ -133,8 +183,8 @@ def each_row():
 
 
 def mixed(value):
-    """The same list, each second pair or triple in it as a list."""
-    return [list(part) if at % 2 else part for at, part in enumerate(value)]
+    """The same list, each second tuple in it as a list."""
+    return [list(part) if at % 2 and isinstance(part, tuple) else part for at, part in enumerate(value)]
 
 
 def in_other_kinds(named):
@@ -144,7 +194,8 @@ def in_other_kinds(named):
         other = {name: value if name == "thing" else with_kind(value, kinds[at % 2])
                  for at, (name, value) in enumerate(named.items())}
         told.append(other)
-    told.append({name: mixed(value) if name in ("almanac", "words") else value for name, value in named.items()})
+    told.append({name: mixed(value) if name != "thing" and isinstance(value, list) else value
+                 for name, value in named.items()})
     return told
 
 

@@ -1,4 +1,4 @@
-"""What [1] (a), (b) and (g) say of winds, of orders and of two dunes."""
+"""What [1] (a) to (h) say, of the whole program."""
 
 import itertools
 import unittest
@@ -6,18 +6,22 @@ import unittest
 from dunebooks.almanacs import behind
 from dunebooks.beside import is_below, widths
 from dunebooks.between import greatest_order, least_order, may_stand
+from dunebooks.cores import alike, core, parting, shows_parting
+from dunebooks.longbooks import done, kept_by, long_many, long_may
 from dunebooks.orders import almanac_of, order_at, orders_many
+from dunebooks.plays import best_play, held, shows_least, shows_most
+from dunebooks.torn import fits_torn, slopes_for
 from dunebooks.winds import blown
-from samples import WORDS, slow_core, slow_held, small_almanacs, small_dunes
+from samples import WORDS, slow_core, slow_held, slow_rows, small_almanacs, small_dunes
 
 
 class Cores(unittest.TestCase):
     def test_an_almanac_does_what_its_core_does(self):
         dunes = small_dunes(3, (0, 1, 4)) + [(0, 4, 1, 3, -2)]
         for almanac in small_almanacs(3, (0, 1, 2)):
-            core = slow_core(almanac)
+            self.assertEqual(core(almanac), slow_core(almanac))
             for dune in dunes:
-                self.assertEqual(behind(dune, almanac), behind(dune, core))
+                self.assertEqual(behind(dune, almanac), behind(dune, core(almanac)))
 
     def test_a_step_of_two_posts_parts_unlike_cores(self):
         steps = [(0, number) for number in range(1, 6)]
@@ -27,6 +31,15 @@ class Cores(unittest.TestCase):
             told.setdefault(tuple(slow_core(almanac)), set()).add(ends)
         self.assertTrue(all(len(ends) == 1 for ends in told.values()))
         self.assertEqual(len({min(ends) for ends in told.values()}), len(told))
+
+    def test_the_least_step_that_parts_them_is_told(self):
+        almanacs = small_almanacs(4, (0, 1, 3))
+        for one, other in zip(almanacs, almanacs[7::3] + almanacs[::-1]):
+            step = parting(one, other)
+            self.assertEqual(alike(one, other), core(one) == core(other))
+            self.assertEqual(step is None, alike(one, other))
+            shown = [number for number in range(1, 9) if shows_parting(one, other, number)]
+            self.assertEqual(shown[:1], [] if step is None else [step])
 
 
 class Orders(unittest.TestCase):
@@ -49,6 +62,47 @@ class Orders(unittest.TestCase):
             for order in orders:
                 after = behind(dune, almanac_of(cuts, fills, order))
                 self.assertTrue(is_below(least, after) and is_below(after, greatest))
+
+
+class Games(unittest.TestCase):
+    def test_both_hands_plays_show_each_height_and_judges_see_that(self):
+        for dune in small_dunes(3, (0, 2, 5)) + [(6, 0, 1, 9, 3)]:
+            for almanac in small_almanacs(2, (0, 1, 3)):
+                after = behind(dune, almanac)
+                cuts, fills = (best_play(dune, almanac, word) for word in WORDS)
+                self.assertEqual((held(dune, almanac, "cut", cuts), held(dune, almanac, "fill", fills)), (after, after))
+                for post, height in enumerate(after):
+                    self.assertIs(shows_most(dune, almanac, post, height, cuts), True)
+                    self.assertIs(shows_least(dune, almanac, post, height, fills), True)
+                    self.assertIs(shows_most(dune, almanac, post, height - 1, cuts), False)
+                    self.assertIs(shows_least(dune, almanac, post, height + 1, fills), False)
+
+
+class TornPages(unittest.TestCase):
+    def test_the_slopes_are_a_stretch_or_none(self):
+        for dune in small_dunes(3, (0, 5)) + [(6, 0, 1, 9, 3)]:
+            for ahead, later in zip(small_almanacs(2, (1, 4)), small_almanacs(2, (0, 3))[::-1]):
+                for word in WORDS:
+                    ends = [behind(dune, ahead + [(word, slope)] + later) for slope in range(12)]
+                    for told in ends:
+                        least, greatest = slopes_for(dune, ahead, word, later, told)
+                        fitting = [slope for slope in range(12) if ends[slope] == told]
+                        last = 11 if greatest is None else greatest
+                        self.assertEqual(fitting, list(range(least, last + 1)))
+                        self.assertIn(word, fits_torn(dune, ahead, later, told))
+
+
+class LongBooks(unittest.TestCase):
+    def test_what_both_keepers_books_leave_open(self):
+        row = [("fill", 2), ("cut", 4), ("hand", 1, 3), ("cut", 1), ("fill", 1), ("hand", 0, -2), ("fill", 0), ("cut", 2)]
+        for many in range(len(row) + 1):
+            books = (kept_by(row[:many], "cut"), kept_by(row[:many], "fill"))
+            rows = slow_rows(*books)
+            self.assertEqual(len(rows), long_many(*books))
+            for dune in [(0, 7), (4, 0, 3), (0, 9, 0, 5)]:
+                least, greatest = long_may(dune, *books)
+                for each in rows:
+                    self.assertTrue(is_below(least, done(dune, each)) and is_below(done(dune, each), greatest))
 
 
 class TwoDunes(unittest.TestCase):
