@@ -29,6 +29,12 @@ def kept_by(entries, word):
     return entries_with(entries, (word, "hand"))
 
 
+def behind_last_hand(entries):
+    """The list of the ENTRYs behind the last hand, WINDs all of them."""
+    hands = [place for place, entry in enumerate(entries) if is_hand(entry)]
+    return entries[max(hands, default=-1) + 1:]
+
+
 def idle_for_all(entries):
     """The rising list of places of WINDs with one as gentle or gentler ahead, and no hand between."""
     places = []

@@ -37,20 +37,20 @@ def is_figures(word):
     return word == "0" or word[0] != "0"
 
 
-def height_text(height):
-    """The word of a height."""
-    return "-" + figures_of(-height) if height < 0 else figures_of(height)
+def number_text(number):
+    """The word of any number."""
+    return "-" + figures_of(-number) if number < 0 else figures_of(number)
 
 
-def is_height_word(word):
-    """Whether a word is that of a height."""
+def is_number_word(word):
+    """Whether a word is that of a number."""
     if word[:1] == "-":
         return is_figures(word[1:]) and word != "-0"
     return is_figures(word)
 
 
-def height_in(word):
-    """The height of a word that is one's."""
+def number_in(word):
+    """The number of a word that is one's."""
     return -number_of_figures(word[1:]) if word[0] == "-" else number_of_figures(word)
 
 
@@ -72,7 +72,7 @@ def wind_in(word):
 
 def dune_text(dune):
     """The text of a DUNE."""
-    return " ".join([height_text(height) for height in dune])
+    return " ".join([number_text(height) for height in dune])
 
 
 def almanac_text(almanac):
@@ -84,9 +84,9 @@ def dune_in(text):
     """The DUNE of which this is the text; BadText."""
     words = text.split(" ")
     for at, word in enumerate(words):
-        if not is_height_word(word):
+        if not is_number_word(word):
             raise BadText(at)
-    return tuple([height_in(word) for word in words])
+    return tuple([number_in(word) for word in words])
 
 
 def almanac_in(text):

@@ -136,6 +136,15 @@ def small_cases():
     return told
 
 
+def spread_numbers(seed, many, below):
+    """So many numbers from 0 on, below a bound, unlike for each seed and the same each time."""
+    told, now = [], seed * 7919 + 12345
+    for turn in range(many):
+        now = (now * 1103515245 + 12345) % 2 ** 31
+        told.append((now >> 8) % below)
+    return told
+
+
 def nested(inner, deep, kinds):
     """A thing in so many lists or tuples, one in the other; kinds take turns."""
     for turn in range(deep):

@@ -143,6 +143,83 @@ class Form(unittest.TestCase):
         for path, node in each_node(ast.Raise):
             self.assertIsInstance(node.exc, (ast.Call, None.__class__), path)
 
+    def test_no_name_is_a_method_here_and_an_attribute_there(self):
+        classes = each_node(ast.ClassDef)
+        methods = {node.name for path, home in classes for node in home.body if isinstance(node, ast.FunctionDef)}
+        given = {node.attr for path, node in each_node(ast.Attribute) if isinstance(node.ctx, ast.Store)}
+        read = {node.attr for path, node in each_node(ast.Attribute)}
+        self.assertIn("blow", methods)
+        self.assertEqual(methods & given, set())
+        self.assertEqual(given & set(METHODS), set())
+        self.assertEqual(read - given - methods - set(METHODS), set())
+        self.assertEqual((methods - {"__init__"}) & set(METHODS), set())
+
+    def test_classes(self):
+        for path, node in each_node(ast.ClassDef):
+            self.assertEqual(node.decorator_list, [], path)
+            names = [part.name for part in node.body if isinstance(part, ast.FunctionDef)]
+            self.assertEqual(len(names), len(set(names)), path)
+            self.assertEqual([name for name in names if name.startswith("_") and name not in DUNDERS], [], path)
+        for path, node in each_node(ast.FunctionDef):
+            self.assertEqual(node.decorator_list, [], path)
+            if node.name in ("__eq__", "__len__", "__repr__"):
+                self.assertEqual([type(part) for part in node.body], [ast.Return], path)
+
+    def test_sets_stand_in_sorted_or_len_or_behind_in(self):
+        for path in FILES:
+            tree = ast.parse(path.read_text())
+            good = [node.args[0] for node in ast.walk(tree) if isinstance(node, ast.Call) and node.args
+                    and getattr(node.func, "id", "") in ("sorted", "len") and node.keywords == []]
+            good += [node.comparators[0] for node in ast.walk(tree) if isinstance(node, ast.Compare)
+                     and isinstance(node.ops[0], (ast.In, ast.NotIn))]
+            for node in ast.walk(tree):
+                is_set = isinstance(node, ast.Call) and getattr(node.func, "id", "") == "set"
+                if isinstance(node, (ast.Set, ast.SetComp)) or is_set:
+                    self.assertIn(node, good, path)
+
+    def test_what_is_iterated_at_once(self):
+        lazy = ("zip", "enumerate", "reversed", "range")
+        for path in FILES:
+            tree = ast.parse(path.read_text())
+            good = [node.iter for node in ast.walk(tree) if isinstance(node, (ast.For, ast.comprehension))]
+            good += [node.args[0] for node in ast.walk(tree) if isinstance(node, ast.Call) and node.args
+                     and getattr(node.func, "id", "") in ("list", "tuple", "sorted", "sum", "any", "all")]
+            # reversed(range(k)) is allowed, too.
+            good += [node.args[0] for node in ast.walk(tree) if isinstance(node, ast.Call)
+                     and getattr(node.func, "id", "") == "reversed" and isinstance(node.args[0], ast.Call)
+                     and getattr(node.args[0].func, "id", "") == "range"]
+            for node in ast.walk(tree):
+                if isinstance(node, ast.Call) and getattr(node.func, "id", "") in lazy:
+                    self.assertIn(node, good, path)
+                if isinstance(node, ast.Attribute):
+                    self.assertNotIn(node.attr, ("sort", "items", "keys", "values"), path)
+
+    def test_only_own_errors_are_caught(self):
+        own = [node.name for path, node in each_node(ast.ClassDef) if path.stem == "errors"]
+        for path, node in each_node(ast.ExceptHandler):
+            self.assertIn(getattr(node.type, "id", None), own, path)
+        for path, node in each_node(ast.Try):
+            for part in node.finalbody:
+                self.assertIsInstance(part, ast.Expr, path)
+                self.assertEqual((part.value.func.attr, len(part.value.args)), ("append", 1), path)
+                inner = [type(each) for each in ast.walk(part.value.args[0])]
+                self.assertTrue(set(inner) <= {ast.Tuple, ast.Constant, ast.Name, ast.Load}, path)
+
+    def test_module_level(self):
+        allowed = (ast.ImportFrom, ast.FunctionDef, ast.ClassDef, ast.Assign)
+        for path in FILES:
+            head, *rest = ast.parse(path.read_text()).body
+            self.assertIsInstance(getattr(head, "value", None), ast.Constant, path)
+            for node in rest:
+                self.assertIsInstance(node, allowed, path)
+                if isinstance(node, ast.Assign):
+                    self.assertEqual([each for each in ast.walk(node) if isinstance(each, ast.Call)], [], path)
+
+    def test_no_default_is_a_list_and_no_argument_has_a_star(self):
+        for path, node in each_node(ast.arguments):
+            self.assertEqual((node.vararg, node.kwarg, node.posonlyargs, node.kwonlyargs), (None, None, [], []), path)
+            self.assertEqual(node.defaults, [], path)
+
     def test_python_gives_no_warning(self):
         with warnings.catch_warnings():
             warnings.simplefilter("error")

@@ -4,8 +4,9 @@ import copy
 import itertools
 import unittest
 
-from dunebooks import almanacs, beside, between, cores, dunes, longbooks, orders, plays, texts, torn, winds
-from dunebooks.errors import Against, Astray, BadText, Clash, NoOrder, NoPost, Unlike
+from dunebooks import (almanacs, beside, between, bookcores, cores, desk, dunes, longbooks, orders, plays, sure, texts,
+                       torn, winds)
+from dunebooks.errors import Against, Astray, BadRow, BadText, Clash, NoCore, NoOrder, NoPost, TooMany, Unlike
 from samples import BOUND, shape, with_kind
 
 DUNE = (0, 5, 1)
@@ -23,6 +24,7 @@ FILLER = [HAND, ("fill", 1)]
 KEPT = {"cutter": CUTTER, "filler": FILLER}
 ENTRIES = [("cut", 3), ("fill", 4), HAND, ("fill", 2), ("cut", 2)]
 PLAY = [(0, 0, 2), (), (0, 1, 2)]
+MANY_BOOKS = {"cuts": [9, 8, 7, 6, 5, 4, 3, 2, 1], "fills": [9, 8, 7, 6, 5, 4, 3, 2, 1]}
 CLASH = [("cut", 0, 0), ("cut", 1, 1), ("fill", 1, 1), ("fill", 0, 0)]
 
 # Each function with its arguments by the document's names, in the document's order, and what it tells.
@@ -100,6 +102,25 @@ ROWS = [
     (between.sure_posts, {"dune": (5, 5, 6), **TOLD_BOOKS}, [0, 1, 2]),
     (between.sure_posts, {"dune": DUNE, **TOLD_BOOKS}, []),
     (between.sure_posts, {"dune": DUNE, **BARE_TOLD}, [0, 1, 2]),
+    (bookcores.cores_many, BOOKS, 3),
+    (bookcores.cores_many, BARE_BOOKS, 1),
+    (bookcores.cores_many, MANY_BOOKS, 512),
+    (bookcores.cores_all, BOOKS, [[("cut", 2), ("fill", 1)], [("cut", 3), ("fill", 1)], [("fill", 1)]]),
+    (bookcores.cores_all, BARE_BOOKS, [[]]),
+    (bookcores.order_for, {**BOOKS, "core": [("cut", 3), ("fill", 1)]}, "cfcf"),
+    (bookcores.order_for, {**BARE_BOOKS, "core": []}, ""),
+    (bookcores.order_to, {"dune": DUNE, **BOOKS, "told": (4, 5, 4)}, "fccf"),
+    (bookcores.order_to, {"dune": DUNE, **BOOKS, "told": (4, 5, 5)}, None),
+    (bookcores.order_to, {"dune": DUNE, **BARE_BOOKS, "told": DUNE}, ""),
+    (bookcores.ends_all, {"dune": DUNE, **BOOKS}, [(1, 2, 1), (2, 3, 2), (4, 5, 4)]),
+    (bookcores.ends_all, {"dune": DUNE, **BARE_BOOKS}, [DUNE]),
+    (sure.corners, {"order": "cfcf"}, [("cut", 0, 0), ("fill", 1, 0), ("cut", 1, 1)]),
+    (sure.corners, {"order": ""}, []),
+    (sure.is_enough, {"dune": DUNE, **TOLD_BOOKS}, False),
+    (sure.is_enough, {"dune": DUNE, **BARE_TOLD}, True),
+    (sure.is_enough, {"dune": DUNE, **BOOKS, "words": [("cut", 0, 0), ("fill", 1, 0)]}, True),
+    (sure.fewest_words, {"dune": DUNE, **BOOKS, "order": "cfcf"}, [("cut", 0, 0), ("fill", 1, 0)]),
+    (sure.fewest_words, {"dune": DUNE, **BARE_BOOKS, "order": ""}, []),
     (plays.held, {"dune": DUNE, "almanac": ALMANAC, "word": "cut", "play": PLAY}, (1, 3, 1)),
     (plays.held, {"dune": DUNE, "almanac": [], "word": "cut", "play": []}, DUNE),
     (plays.best_play, {"dune": DUNE, "almanac": ALMANAC, "word": "cut"}, [(0, 0, 2), (), (0, 0, 2)]),
@@ -141,6 +162,8 @@ ROWS = [
     (texts.dune_in, {"text": "0 5 1"}, DUNE),
     (texts.almanac_in, {"text": "c3 f2 c2"}, ALMANAC),
     (texts.almanac_in, {"text": "-"}, []),
+    (desk.answers, {"text": "dune 0 5 1\ncut 3\nhand 7 1\nmay"}, ["2", "refused NoPost", "0 3 1 / 0 3 1"]),
+    (desk.answers, {"text": "dune 0 5 1"}, []),
 ]
 
 # Each function that refuses, with arguments that it refuses, the refusal's class, its field and what that tells.
@@ -166,6 +189,10 @@ REFUSED = [
     (beside.widths, {"one": DUNE, "other": (1, 2), "almanac": ALMANAC}, Unlike, None, None),
     (beside.felt, {"dune": DUNE, "almanac": ALMANAC, "post": -1, "by": 0}, NoPost, "post", -1),
     (beside.felt, {"dune": DUNE, "almanac": ALMANAC, "post": 3, "by": 2}, NoPost, "post", 3),
+    (bookcores.cores_all, MANY_BOOKS, TooMany, "many", 512),
+    (bookcores.order_to, {"dune": DUNE, **MANY_BOOKS, "told": (1, 1)}, TooMany, "many", 512),
+    (bookcores.ends_all, {"dune": DUNE, **MANY_BOOKS}, TooMany, "many", 512),
+    (sure.is_enough, {"dune": DUNE, **BOOKS, "words": CLASH}, Clash, "places", (0, 3)),
     (longbooks.done, {"dune": DUNE, "entries": [HAND, ("hand", 3, 1), ("hand", -1, 1)]}, NoPost, "post", 3),
     (longbooks.stretches, {"cutter": [HAND, HAND], "filler": FILLER}, Astray, "number", 1),
     (longbooks.long_may, {"dune": DUNE, "cutter": [HAND, HAND], "filler": FILLER}, Astray, "number", 1),
@@ -174,6 +201,7 @@ REFUSED = [
     (longbooks.long_many, {"cutter": [HAND, HAND], "filler": FILLER}, Astray, "number", 1),
     (texts.dune_in, {"text": "1 c2"}, BadText, "at", 1),
     (texts.almanac_in, {"text": "c2 1"}, BadText, "at", 1),
+    (desk.answers, {"text": "dune 0 5 1\nhand 7 1\nhand 0 0"}, BadRow, "row", 2),
 ]
 
 
@@ -307,6 +335,15 @@ class Handing(unittest.TestCase):
             for other in in_other_kinds(named):
                 self.refused(function, other, *wanted)
 
+    def test_a_core_is_refused_as_it_is_handed_in(self):
+        for core in ([("cut", 9)], (("cut", 9),), [["cut", 9], ("fill", 1)], (["cut", 9],)):
+            before = copy.deepcopy(core)
+            told = self.refused(bookcores.order_for, {**BOOKS, "core": core}, NoCore, "core", before)
+            spoil(core)
+            self.told(told.core, before)
+            spoil(told.core)
+            self.refused(bookcores.order_for, {"core": before, **BOOKS}, NoCore, "core", before)
+
     def test_a_refusal_changes_nothing(self):
         for function, named, *wanted in REFUSED:
             for other in in_other_kinds(copy.deepcopy(named)):
@@ -340,6 +377,25 @@ class Handing(unittest.TestCase):
         self.told(beside.width(dune, dunes.raised(dune, slope)), slope)
         self.told(beside.felt(dune, [("cut", slope)], 39, 0), (0,) * 40)
         self.told(between.may_stand(dune, [slope], [slope], []), (dune, dune))
+
+    def test_books_and_entries_that_were_told_may_be_handed_in_again(self):
+        almanac = [("cut" if at % 2 else "fill", BOUND - at) for at in range(30)]
+        (cuts, fills), order = orders.books_of(almanac), orders.order_of(almanac)
+        dune = (-BOUND, BOUND) * 20
+        self.assertEqual(len(cuts), 15)
+        self.told(bookcores.order_for(cuts, fills, cores.core(almanac)), order)
+        self.refused(bookcores.cores_all, {"cuts": cuts, "fills": fills}, TooMany, "many",
+                     bookcores.cores_many(cuts, fills))
+        words = sure.fewest_words(dune, cuts, fills, order)
+        self.told(sure.is_enough(dune, cuts, fills, words), True)
+        row = [entry for at in range(40) for entry in (("cut", 99 - at), ("fill", 98 - at), HAND)]
+        books = (longbooks.kept_by(row, "cut"), longbooks.kept_by(row, "fill"))
+        self.told(longbooks.long_many(*books), 2 ** 40)
+        self.assertTrue(beside.is_below(longbooks.long_may(dune, *books)[0], longbooks.done(dune, row)))
+        told = (-BOUND, BOUND - 1) * 20
+        least, greatest = torn.slopes_for(dune, [], "cut", [], told)
+        self.told((least, greatest), (2 * BOUND - 1, 2 * BOUND - 1))
+        self.told(winds.blown(dune, ("cut", greatest)), told)
 
 
 if __name__ == "__main__":

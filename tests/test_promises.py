@@ -6,13 +6,17 @@ import unittest
 from dunebooks.almanacs import behind
 from dunebooks.beside import is_below, widths
 from dunebooks.between import greatest_order, least_order, may_stand
+from dunebooks.bookcores import cores_all, cores_many, ends_all, order_for
 from dunebooks.cores import alike, core, parting, shows_parting
 from dunebooks.longbooks import done, kept_by, long_many, long_may
 from dunebooks.orders import almanac_of, order_at, orders_many
 from dunebooks.plays import best_play, held, shows_least, shows_most
+from dunebooks.sure import fewest_words, is_enough
 from dunebooks.torn import fits_torn, slopes_for
 from dunebooks.winds import blown
-from samples import WORDS, slow_core, slow_held, slow_rows, small_almanacs, small_dunes
+from dunebooks.yard import Yard
+from samples import (WORDS, slow_almanac, slow_core, slow_held, slow_orders, slow_rows, small_almanacs, small_dunes,
+                     words_of)
 
 
 class Cores(unittest.TestCase):
@@ -62,6 +66,53 @@ class Orders(unittest.TestCase):
             for order in orders:
                 after = behind(dune, almanac_of(cuts, fills, order))
                 self.assertTrue(is_below(least, after) and is_below(after, greatest))
+
+
+class BookCores(unittest.TestCase):
+    def test_each_core_and_an_order_for_it_is_told_and_how_many_there_are(self):
+        books = [list(book) for many in range(4) for book in itertools.product((0, 2, 3), repeat=many)]
+        for cuts, fills in zip(books * 3, books[5:] + books[::-1] + books[::2]):
+            wanted = {}
+            for order in slow_orders(cuts, fills):
+                wanted.setdefault(str(slow_core(slow_almanac(cuts, fills, order))), order)
+            told = cores_all(cuts, fills)
+            self.assertEqual((cores_many(cuts, fills), len(told)), (len(wanted), len(wanted)))
+            self.assertEqual({str(each): order_for(cuts, fills, each) for each in told}, wanted)
+
+    def test_unlike_cores_part_some_step(self):
+        for cuts, fills in [([7, 5, 3], [6, 4, 2]), ([3, 2, 1], [3, 2, 1]), ([5, 2], [5, 4, 1, 0])]:
+            steps = [ends_all((0, step), cuts, fills) for step in range(1, 10)]
+            self.assertLessEqual(max(len(ends) for ends in steps), cores_many(cuts, fills))
+            told = cores_all(cuts, fills)
+            ends = {tuple(behind((0, step), each) for step in range(1, 10)) for each in told}
+            self.assertEqual(len(ends), len(told))
+
+
+class FewestWords(unittest.TestCase):
+    def test_they_make_all_sure_and_no_fewer_words_of_the_order_do(self):
+        for cuts, fills in [([3, 1], [2, 0]), ([4, 2, 0], [3, 1]), ([1, 1], [1, 1])]:
+            for dune, order in itertools.product([(0, 9), (5, 0, 3), (1, 1)], slow_orders(cuts, fills)):
+                words = fewest_words(dune, cuts, fills, order)
+                self.assertTrue(is_enough(dune, cuts, fills, words))
+                for fewer in itertools.combinations(words_of(order), max(0, len(words) - 1)):
+                    self.assertTrue(words == [] or not is_enough(dune, cuts, fills, list(fewer)))
+
+
+class Yards(unittest.TestCase):
+    def test_a_yard_tells_what_one_made_anew_tells(self):
+        each = [("cut", 3), ("fill", 1), ("hand", 1, 4), ("hand", 5, 1), ("cut", 0), None]
+        for row in itertools.product(each, repeat=4):
+            yard = Yard((0, 6, 2))
+            for entry in row:
+                try:
+                    yard.do([("fill", 2), entry]) if entry else yard.undo()
+                except LookupError:
+                    self.assertEqual(entry, ("hand", 5, 1))
+            anew = Yard(yard.first())
+            anew.do(yard.entries())
+            self.assertEqual((yard.dune(), yard.may(), yard.is_sure()), (anew.dune(), anew.may(), anew.is_sure()))
+            self.assertEqual(yard.dune(), done((0, 6, 2), yard.entries()))
+            self.assertNotIn(("hand", 5, 1), yard.entries())
 
 
 class Games(unittest.TestCase):
