@@ -23,6 +23,11 @@ def core(almanac):
     return kept
 
 
+def cores_of(almanacs):
+    """The rising list of the cores of some almanacs, each of another one."""
+    return sorted([core(almanac) for almanac in almanacs])
+
+
 def is_core(thing):
     """Whether a thing is an ALMANAC that is its own core."""
     return is_almanac(thing) and core(thing) == thing
