@@ -55,10 +55,11 @@ def shortest_ways(side, begin):
         rounds.append(list(found))
     ways = {spot: [] for spot in rounds[-1] if side.is_there(spot)}
     for spots in rounds[-2::-1]:
+        # All are asked before any is added: to go by a spot of the same round takes one corner more.
+        onward = {spot: [later for later in ahead[spot] if later in ways] for spot in spots}
         for spot in spots:
-            later = [following for following in ahead[spot] if following in ways]
-            if len(later) > 0:
-                ways[spot] = later
+            if len(onward[spot]) > 0:
+                ways[spot] = onward[spot]
     return ways
 
 

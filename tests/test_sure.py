@@ -183,6 +183,38 @@ class FewestWords(Told):
             self.assertEqual(slow_fewest(ends_by_order(dune, cuts, fills), slow_corners(order)), wanted)
             self.told(fewest_words(dune, cuts, fills, order), wanted)
 
+    def test_no_corner_more_on_the_way(self):
+        # Here a spot is come to by one corner, and also by another one and then that: such a way is not the shortest.
+        wanted = [("cut", 0, 1), ("fill", 1, 1), ("fill", 3, 3), ("fill", 4, 4)]
+        for dune, cuts, fills in [
+            ((0, 1, -7), [4, 3, 2, 1, 0], [5, 2, 2, 1, 0]),
+            ((0, 8, 7), [5, 3, 3, 1, 0], [6, 4, 3, 1, 0]),
+            ((6, 6, -3), [5, 4, 3, 2, 0], [6, 3, 3, 2, 1]),
+        ]:
+            order, swapped = "fcfcfcfcfc", "cfcfcfcfcf"
+            self.assertEqual(slow_fewest(ends_by_order(dune, cuts, fills), slow_corners(order)), wanted)
+            self.told(fewest_words(dune, cuts, fills, order), wanted)
+            self.told(fewest_words(dune[::-1], cuts, fills, order), wanted)
+            # Upside down, with cuts for fills, another list may be the first, so all are gone through anew.
+            contrary = (tuple([-height for height in dune]), fills, cuts)
+            again = slow_fewest(ends_by_order(*contrary), slow_corners(swapped))
+            self.assertEqual(len(again), len(wanted))
+            self.told(fewest_words(*contrary, swapped), again)
+
+    def test_no_corner_more_in_longer_books(self):
+        for dune, cuts, fills, order in [
+            ((0, -2, 0, 197), [63, 49, 41, 34, 26, 15, 5], [58, 46, 37, 32, 19, 11], "cfcfcfcfcfcfc"),
+            ((1, 49, -23, 56, 192), [135, 119, 113, 99, 85, 57, 40], [128, 114, 104, 90, 79, 41, 40],
+             "cfcfcfccfffcfc"),
+            ((0, 4, 7, 7, 121), [65, 52, 44, 33, 19, 6, 0], [57, 36, 34, 28, 13, 0], "cfcfcfcfcfcfc"),
+        ]:
+            # Too many orders to go through for each list, so is_enough, tested above, is asked.
+            words = fewest_words(dune, cuts, fills, order)
+            alike = [list(row) for row in itertools.combinations(slow_corners(order), len(words))]
+            fewer = [list(row) for row in itertools.combinations(slow_corners(order), len(words) - 1)]
+            self.told(words, min([row for row in alike if is_enough(dune, cuts, fills, row)]))
+            self.assertFalse(any([is_enough(dune, cuts, fills, row) for row in fewer]))
+
     def test_alternating_orders(self):
         for turn in range(60):
             numbers = spread_numbers(turn, 13, 6)
